@@ -1,0 +1,1 @@
+"""The play of a board of cards: trickboard.board.answers(calls) is the way in."""
