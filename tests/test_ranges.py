@@ -3,7 +3,8 @@
 import unittest
 
 from tests.helper import (
-    FAR, NO_TRUMPS, TABLE, WITHDRAW, BoardCase, claim, deal, duty, mend, play, plays, raw_deal, row_of, run,
+    FAR, NO_TRUMPS, QUESTIONS, TABLE, WITHDRAW, BoardCase, claim, deal, duty, hand, mend, play, plays, raw_deal, row_of,
+    run, script, trick, whose,
 )
 
 HANDS = ["CA DK H2", "C2 D2 S2", "C3 D3 S3", "C4 D4 H4"]
@@ -19,6 +20,9 @@ CALLS = (
     (START, claim(0, 1), ((0, 1), (0, 13))),
     (START + [claim(0, 1)], [6, 1], ((0, 1),)),
     (START + plays("1:C2"), [7, 1], ((0, 400),)),
+    (START, hand(1), ((0, 3),)),
+    (START + [script("C2 C3 C4 CA")], trick(1), ((1, 13),)),
+    (START, whose("C2"), ((0, 51),)),
 )
 
 
@@ -61,15 +65,22 @@ class RangeTest(BoardCase):
         over = [deal(3, 0, ["C2", "C3", "C4", "C5"])] + plays("0:C2 1:C3 2:C4 3:C5")
         for before in (over, START + plays("3:C4"), START + plays("1:C2"), START + [claim(0, 1)]):
             for call in ([1, 4, 0], [1, 0, 52], [2, 2], [3, 52], [4, 0, 0], [4, 1, 4], [5, 2, 0], [5, 0, 14], [6, 2],
-                         [7, 401]):
+                         [7, 401], [9, 4], [9, -1], [11, 0], [11, 14], [16, 1, 256], [16, 1, -1], [17, 52], [17, -1]):
                 self.check_refused(before, call, -1)
 
 
 class NoBoardTest(BoardCase):
 
     def test_any_call_before_the_first_deal(self):
-        for call in ([1, 0, 0], [2, 0], [2, 1], [3, 0], [4, 1, 0], [5, 0, 0], [6, 0], [6, 1], [7, 0], [7, 1], [8]):
+        calls = [[1, 0, 0], [2, 0], [2, 1], [3, 0], [4, 1, 0], [5, 0, 0], [6, 0], [6, 1], [7, 0], [7, 1], [16, 0],
+                 script("C2"), script("XX"), [17, 0], [17, 51]]
+        for call in calls + QUESTIONS:
             self.check([], (call, [-3]), (TABLE, [-3]), (whole([0, 1, 2]), [0, 3]), (TABLE, [0, 2, 0, 3, 0, 0, 0, 0]))
+
+    def test_a_refused_deal_makes_no_board(self):
+        for refused in (raw_deal(0, 0, [4] * 52), raw_deal(0, 0, [0] * 51), raw_deal(4, 0, row_of(HANDS))):
+            for call in QUESTIONS + [script("C2"), whose("C2"), [7, 0]]:
+                self.assertEqual(run([refused, call])[1], [-3], (refused, call))
 
 
 if __name__ == "__main__":

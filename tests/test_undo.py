@@ -1,8 +1,8 @@
 import unittest
 
 from tests.helper import (
-    ACCEPT, AGREE, FORGET, NO_TRUMPS, TABLE, WITHDRAW, BoardCase, claim, deal, duty, mend, play, plays, run, table,
-    undo,
+    ACCEPT, AGREE, FORGET, NO_TRUMPS, QUESTIONS, TABLE, WITHDRAW, BoardCase, claim, deal, duty, mend, play, plays, run,
+    script, table, undo,
 )
 
 HANDS = ["CA DK H2", "C2 D2 S2", "C3 D3 S3", "C4 D4 H4"]
@@ -52,20 +52,25 @@ class UndoTest(BoardCase):
                    (undo(2), [-15]), (undo(1), [0]), (TABLE, table(1, 0, 3)))
 
     def test_each_stretch_of_all_that_can_be_done(self):
-        """After any undo the rest of the line is answered just as it was the first time."""
+        """After any undo all that can be asked is as it was, and the rest of the line is answered as the first time."""
+        self.assertTrue(all(answer[0] == 0 for answer in run(LONG)))
         count = len(LONG) - 1
-        calls = [LONG[0]]
-        for call in LONG[1:]:
-            calls += [call, TABLE]
-        first = run(calls)
-        self.assertTrue(all(answer[0] == 0 for answer in first))
+        shown = [run(LONG[:1 + end] + QUESTIONS)[1 + end:] for end in range(count + 1)]
         for end in range(count + 1):
             for k in range(end + 1):
-                again = run(calls[:1 + 2 * end] + [undo(k), TABLE] + calls[1 + 2 * (end - k):])
-                self.assertEqual(again[1 + 2 * end], [0])
-                shown = first[2 * (end - k)] if end > k else table(1, 0, 3)
-                self.assertEqual(again[2 + 2 * end], shown, (end, k))
-                self.assertEqual(again[3 + 2 * end:], first[1 + 2 * (end - k):], (end, k))
+                rest = LONG[1 + end - k:]
+                again = run(LONG[:1 + end] + [undo(k)] + QUESTIONS + rest + QUESTIONS)[1 + end:]
+                self.assertEqual(again[0], [0])
+                self.assertEqual(again[1:1 + len(QUESTIONS)], shown[end - k], (end, k))
+                self.assertEqual(again[1 + len(QUESTIONS):], run(LONG)[1 + end - k:] + shown[count], (end, k))
+
+    def test_cards_of_scripts_one_by_one(self):
+        """A line whose cards are played by scripts is undone as one whose cards are played by plays."""
+        one_by_one = [play(3, "D4"), WITHDRAW] + plays("1:C2 2:C3 3:D4 0:CA 0:DK 1:D2 2:D3 3:C4 0:H2 1:S2 2:S3 3:H4")
+        by_scripts = [play(3, "D4"), WITHDRAW, script("C2 C3 D4"), script(""), script("CA DK D2 D3 C4 H2 S2 S3 H4 C2")]
+        for k in range(15):
+            asked = [undo(k)] + QUESTIONS + [undo(15 - k), undo(14 - k)] + QUESTIONS
+            self.assertEqual(run(START + by_scripts + asked)[6:], run(START + one_by_one + asked)[15:], k)
 
     def test_as_many_as_were_done_on_a_long_line(self):
         done = [play(3, "C4"), WITHDRAW] * 190

@@ -1,26 +1,30 @@
-"""The calls 0 to 8, each with its refusals, on the boards of one line of calls."""
+"""The calls that do something: 0 to 7, and 16, each with its refusals, on the boards of one line of calls."""
 
 from trickboard.deeds import give_duty, lay_face_up, put_down, put_down_revoke, take_back_revoke
 from trickboard.state import (
     Board,
+    busy_refusal,
     can_get_duty,
     dummy_of,
     following_cards,
     is_defender,
-    is_over,
     legal_cards,
     next_board,
     pressing_cards,
     seat_on_turn,
-    something_waits,
     tricks_left,
 )
+from trickboard.texts import card_of, words_of
 
 PLAYED = 0
 WAITS = 1
 PLAYED_AS_REVOKE = 2
 LIES_FACE_UP = 3
 BACK_IN_HAND = 4
+
+ALL_PLAYED = 0
+NO_CARD = 1
+PLAY_REFUSED = 2
 
 
 class Line:
@@ -47,15 +51,6 @@ def deal(line, declarer, trump, row):
     line.board = Board(declarer, trump, size, hands)
     line.past = []
     return [0, size]
-
-
-def busy_refusal(board):
-    """Why nothing new can be begun on this board; 0 if it can."""
-    if is_over(board):
-        return -4
-    if something_waits(board):
-        return -5
-    return 0
 
 
 def turn_refusal(board, seat, card):
@@ -178,20 +173,14 @@ def undo(line, k):
     return [0]
 
 
-def what_waits(board):
-    if board.waiting_card is not None:
-        return 1
-    if board.waiting_claim is not None:
-        return 2
-    return 0
-
-
-def table(line):
-    board = line.board
-    answer = [0, seat_on_turn(board), len(board.tricks), tricks_left(board)]
-    answer.append(1 if is_over(board) else 0)
-    answer.append(what_waits(board))
-    answer.extend([board.duty_kind, board.duty_suit])
-    for seat, card in board.table:
-        answer.extend([seat, card])
-    return answer
+def script(line, text):
+    played = 0
+    for start, word in words_of(text):
+        card = card_of(word)
+        if card is None:
+            return [0, played, NO_CARD, 0, start]
+        answer = play(line, seat_on_turn(line.board), card)
+        if answer[0] != 0:
+            return [0, played, PLAY_REFUSED, answer[0], start]
+        played += 1
+    return [0, played, ALL_PLAYED, 0, 0]

@@ -7,7 +7,10 @@ LEAD_ANOTHER_SUIT = 2
 
 
 class Board:
-    """Plays, and cards that lie face up, are pairs of a seat and a card; a claim is a pair of a side and a number."""
+    """Plays, and cards that lie face up, are pairs of a seat and a card; a claim is a pair of a side and a number.
+
+    A revoke is a seat, a trick's number from 1, and a suit. The cards of a hand are kept going up.
+    """
 
     def __init__(self, declarer, trump, size, hands):
         self.declarer = declarer
@@ -44,11 +47,16 @@ def next_board(board):
     return later
 
 
+def winner_of_trick(board, number):
+    """The winner of a finished trick; the first trick is number 1."""
+    return winner_of(board.tricks[number - 1], board.trump)
+
+
 def seat_on_turn(board):
     if board.table:
         return seat_behind(board.table[-1][0])
     if board.tricks:
-        return winner_of(board.tricks[-1], board.trump)
+        return winner_of_trick(board, len(board.tricks))
     return seat_behind(board.declarer)
 
 
@@ -70,6 +78,23 @@ def is_over(board):
 
 def something_waits(board):
     return board.waiting_card is not None or board.waiting_claim is not None
+
+
+def busy_refusal(board):
+    """Why nothing new can be begun on this board; 0 if it can."""
+    if is_over(board):
+        return -4
+    if something_waits(board):
+        return -5
+    return 0
+
+
+def cards_played(board):
+    """In the order in which they were played."""
+    cards = []
+    for plays in board.tricks + [board.table]:
+        cards.extend([play[1] for play in plays])
+    return cards
 
 
 def wanted_cards(board, hand):
